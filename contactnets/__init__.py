@@ -1,0 +1,1 @@
+"""Contactnets: nets of contacts that hang on switches."""

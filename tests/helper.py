@@ -1,0 +1,94 @@
+"""What several tests need: nets to ask of, odd things, and a plain going-through of all choices."""
+
+import itertools
+
+LADDER = (3, 4, ((0, 2, 0, 1), (0, 3, 1, 1), (2, 3, 2, 1), (1, 2, 1, 0), (1, 3, 0, 0)))
+ALIKE = (2, 3, ((0, 2, 0, 1), (0, 2, 0, 1), (1, 2, 1, 0), (1, 2, 1, 0)))
+LOOSE_ENDS = (2, 5, ((2, 3, 0, 1), (0, 1, 1, 0), (0, 2, 0, 0), (3, 4, 1, 1)))
+APART = (2, 5, ((0, 2, 0, 1), (2, 4, 1, 1), (1, 3, 0, 0)))
+EMPTY = (1, 2, ())
+CHAIN = (4, 7, ((5, 6, 3, 1), (1, 6, 0, 1), (0, 2, 0, 1), (4, 5, 2, 1), (2, 3, 1, 0), (3, 4, 2, 1)))
+
+
+def made_nets(count, most_places=7, most_contacts=9):
+    """Nets of a fixed row of numbers, so that each run asks the same."""
+    state = 12345
+    nets = []
+
+    def below(bound):
+        nonlocal state
+        state = (state * 1103515245 + 12345) % 2147483648
+        return (state >> 8) % bound
+
+    for _ in range(count):
+        switches = 1 + below(4)
+        places = 2 + below(most_places - 1)
+        contacts = []
+        for _ in range(below(most_contacts + 1)):
+            pair = sorted([below(places), below(places)])
+            if pair[0] < pair[1]:
+                contacts.append((pair[0], pair[1], below(switches), below(2)))
+        nets.append((switches, places, tuple(contacts)))
+    return nets
+
+
+NETS = [LADDER, ALIKE, LOOSE_ENDS, APART, EMPTY, CHAIN] + made_nets(60)
+
+DOUBLED_CHAIN = (4, 7, ((0, 2, 0, 1), (0, 2, 1, 0), (0, 2, 2, 1), (2, 3, 3, 1), (2, 3, 0, 0), (2, 3, 1, 1),
+                        (3, 4, 2, 0), (3, 4, 3, 0), (3, 4, 0, 1), (4, 5, 1, 1), (4, 5, 2, 1), (4, 5, 3, 1),
+                        (5, 6, 0, 1), (5, 6, 1, 0), (1, 6, 2, 1), (1, 6, 3, 0)))
+DENSE = (4, 7, tuple((a, b, (a + b) % 4, (a * b) % 2) for a, b in itertools.combinations(range(7), 2)
+                     if (a, b) not in ((0, 1), (2, 5), (3, 6), (0, 4), (1, 2))))
+SPLIT = (4, 7, tuple((a, b, (a + 2 * b) % 4, a % 2) for a, b in
+                     ((0, 2), (0, 3), (2, 3), (0, 4), (2, 4), (3, 4), (0, 2), (0, 3),
+                      (1, 5), (1, 6), (5, 6), (1, 5), (1, 6), (5, 6), (1, 5), (1, 6))))
+LARGE_NETS = [DOUBLED_CHAIN, DENSE, SPLIT]
+
+
+def deep(depth):
+    thing = ()
+    for _ in range(depth):
+        thing = (thing,)
+    return thing
+
+
+ODD_THINGS = [None, True, False, 0, 1, -1, 10 ** 29, "", "0", "(0,)", [], [0], [[]], {}, {0: 1}, {"a": [1]},
+              (None,), (True,), (False,), ("0",), ((0,),), ([0],), ({},), (-1,), (10 ** 29,), (0, None), (0, True),
+              deep(59), tuple([0] * 999), tuple(range(999))]
+
+
+def plain_settings(switches):
+    return list(itertools.product((0, 1), repeat=switches))
+
+
+def plain_shut(net, setting):
+    return tuple(number for number, (_, _, switch, on) in enumerate(net[2])
+                 if (setting[switch] == 1 and on == 1) or (setting[switch] == 0 and on == 0))
+
+
+def plain_joins(net, numbers):
+    """Each place bears a mark; a contact gives both marks the one of them."""
+    marks = list(range(net[1]))
+    for number in numbers:
+        a, b = net[2][number][:2]
+        if marks[a] != marks[b]:
+            old, new = marks[a], marks[b]
+            marks = [new if mark == old else mark for mark in marks]
+    return marks[0] == marks[1]
+
+
+def plain_choices(net):
+    """All ways and all bars, by going through each choice of contacts."""
+    count = len(net[2])
+    every = (1 << count) - 1
+    numbers = [tuple(n for n in range(count) if mask >> n & 1) for mask in range(every + 1)]
+    joining = [plain_joins(net, some) for some in numbers]
+    ways = []
+    bars = []
+    for mask, some in enumerate(numbers):
+        if joining[mask] and not any(joining[mask & ~(1 << n)] for n in some):
+            ways.append(some)
+        rest = every & ~mask
+        if not joining[rest] and all(joining[rest | (1 << n)] for n in some):
+            bars.append(some)
+    return sorted(ways), sorted(bars)
