@@ -82,6 +82,19 @@ def function_of(net):
     return tuple([1 if lets(net, setting) else 0 for setting in settings(net[0])])
 
 
+# There are two settings of one switch, and twice as many with each further one.
+def switches_of(function):
+    return len(function).bit_length() - 1
+
+
+def where_both(one, other):
+    return tuple([first & second for first, second in zip(one, other)])
+
+
+def where_either(one, other):
+    return tuple([first | second for first, second in zip(one, other)])
+
+
 def turned_contact(contact, some):
     if contact[2] in some:
         return contact[:3] + (1 - contact[3],)

@@ -2,6 +2,10 @@
 
 import itertools
 
+from contactnets import errors
+
+REFUSALS = ["TooMany", "NoContact", "NoBridge", "NoPlace", "NoTable", "NoName", "BadNote"]
+
 LADDER = (3, 4, ((0, 2, 0, 1), (0, 3, 1, 1), (2, 3, 2, 1), (1, 2, 1, 0), (1, 3, 0, 0)))
 ALIKE = (2, 3, ((0, 2, 0, 1), (0, 2, 0, 1), (1, 2, 1, 0), (1, 2, 1, 0)))
 LOOSE_ENDS = (2, 5, ((2, 3, 0, 1), (0, 1, 1, 0), (0, 2, 0, 0), (3, 4, 1, 1)))
@@ -10,16 +14,21 @@ EMPTY = (1, 2, ())
 CHAIN = (4, 7, ((5, 6, 3, 1), (1, 6, 0, 1), (0, 2, 0, 1), (4, 5, 2, 1), (2, 3, 1, 0), (3, 4, 2, 1)))
 
 
-def made_nets(count, most_places=7, most_contacts=9):
-    """Nets of a fixed row of numbers, so that each run asks the same."""
+def fixed_row():
+    """A fixed row of numbers below what is asked, so that each run asks the same."""
     state = 12345
-    nets = []
 
     def below(bound):
         nonlocal state
         state = (state * 1103515245 + 12345) % 2147483648
         return (state >> 8) % bound
 
+    return below
+
+
+def made_nets(count, most_places=7, most_contacts=9):
+    below = fixed_row()
+    nets = []
     for _ in range(count):
         switches = 1 + below(4)
         places = 2 + below(most_places - 1)
@@ -57,6 +66,51 @@ ODD_THINGS = [None, True, False, 0, 1, -1, 10 ** 29, "", "0", "(0,)", [], [0], [
               deep(59), tuple([0] * 999), tuple(range(999))]
 
 
+NO_NUMBERS = [None, True, False, -1, -2, -10 ** 29, 10 ** 29, "", "0", "2", [], [0], [2], {}, {0: 1}, (), (0,), (2,),
+              (0, 1, 0, 1), deep(59)]
+
+
+def refused(case, kind, asked, *arguments):
+    """The refusal is of its class, a NetError, a ValueError, and of none of the other classes."""
+    with case.assertRaises(ValueError) as caught:
+        asked(*arguments)
+    found = [name for name in REFUSALS if isinstance(caught.exception, getattr(errors, name))]
+    case.assertEqual(found, [kind], arguments)
+    case.assertIsInstance(caught.exception, errors.NetError)
+
+
+def only_of(thing, *kinds):
+    """Whether a thing is built of just these kinds; True and False count as no whole numbers."""
+    if type(thing) not in kinds:
+        return False
+    return not isinstance(thing, (tuple, list)) or all(only_of(part, *kinds) for part in thing)
+
+
+def otherwise(thing):
+    """All that comes of a tuple or list of whole numbers, texts and the like with one thing in it otherwise."""
+    told = [None, "", [], (), {}, True, False, 2, -1, (thing,), [thing]]
+    if isinstance(thing, (tuple, list)):
+        kind = type(thing)
+        told.append((list if kind is tuple else tuple)(thing))
+        told.append(thing + kind([0]))
+        for index, part in enumerate(thing):
+            told.append(thing[:index] + thing[index + 1:])
+            told.append(thing[:index] + kind([part]) + thing[index:])
+            told += [thing[:index] + kind([other]) + thing[index + 1:] for other in otherwise(part)]
+    elif thing in (0, 1):
+        told += [bool(thing), str(thing)]
+    return [other for other in told if not same_of_kind(other, thing)]
+
+
+def same_of_kind(one, other):
+    """Equal, and True is not 1."""
+    if type(one) is not type(other):
+        return False
+    if isinstance(one, (tuple, list)):
+        return len(one) == len(other) and all(same_of_kind(*pair) for pair in zip(one, other))
+    return one == other
+
+
 def plain_settings(switches):
     return list(itertools.product((0, 1), repeat=switches))
 
@@ -75,6 +129,10 @@ def plain_joins(net, numbers):
             old, new = marks[a], marks[b]
             marks = [new if mark == old else mark for mark in marks]
     return marks[0] == marks[1]
+
+
+def plain_function(net):
+    return tuple(int(plain_joins(net, plain_shut(net, setting))) for setting in plain_settings(net[0]))
 
 
 def plain_choices(net):

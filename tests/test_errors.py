@@ -1,8 +1,7 @@
 import unittest
 
 from contactnets import errors
-
-KINDS = ["TooMany", "NoContact", "NoBridge", "NoPlace", "NoTable", "NoName", "BadNote"]
+from tests.helper import REFUSALS as KINDS
 
 
 class Errors(unittest.TestCase):
