@@ -68,8 +68,12 @@ def joins(contacts):
     return 1 in places_from(0, contacts)
 
 
+def shut_contacts(net, setting):
+    return [contact for contact in net[2] if is_shut(contact, setting)]
+
+
 def lets(net, setting):
-    return joins([net[2][number] for number in shut_at(net, setting)])
+    return joins(shut_contacts(net, setting))
 
 
 def is_function(switches, thing):

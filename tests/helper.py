@@ -76,7 +76,7 @@ def refused(case, kind, asked, *arguments):
         asked(*arguments)
     found = [name for name in REFUSALS if isinstance(caught.exception, getattr(errors, name))]
     case.assertEqual(found, [kind], arguments)
-    case.assertIsInstance(caught.exception, errors.NetError)
+    case.assertEqual(type(caught.exception).__bases__, (errors.NetError,))
 
 
 def only_of(thing, *kinds):
@@ -120,7 +120,7 @@ def plain_shut(net, setting):
                  if (setting[switch] == 1 and on == 1) or (setting[switch] == 0 and on == 0))
 
 
-def plain_joins(net, numbers):
+def plain_marks(net, numbers):
     """Each place bears a mark; a contact gives both marks the one of them."""
     marks = list(range(net[1]))
     for number in numbers:
@@ -128,7 +128,17 @@ def plain_joins(net, numbers):
         if marks[a] != marks[b]:
             old, new = marks[a], marks[b]
             marks = [new if mark == old else mark for mark in marks]
+    return marks
+
+
+def plain_joins(net, numbers):
+    marks = plain_marks(net, numbers)
     return marks[0] == marks[1]
+
+
+def plain_pieces(net, setting):
+    marks = plain_marks(net, plain_shut(net, setting))
+    return sorted({tuple(place for place in range(net[1]) if marks[place] == mark) for mark in marks})
 
 
 def plain_function(net):
@@ -150,3 +160,52 @@ def plain_choices(net):
         if not joining[rest] and all(joining[rest | (1 << n)] for n in some):
             bars.append(some)
     return sorted(ways), sorted(bars)
+
+
+def thick(places, count):
+    return (1, places, tuple((0, 1, 0, number % 2) for number in range(count)))
+
+
+def with_places(net, new):
+    return tuple((min(new(a), new(b)), max(new(a), new(b)), switch, on) for a, b, switch, on in net[2])
+
+
+def plain_row(one, other):
+    p, q = one[1], other[1]
+    first = with_places(one, lambda k: p + q - 2 if k == 1 else k)
+    second = with_places(other, lambda k: p + q - 2 if k == 0 else 1 if k == 1 else k + p - 2)
+    return (one[0], p + q - 1, first + second)
+
+
+def plain_side(one, other):
+    p, q = one[1], other[1]
+    return (one[0], p + q - 2, one[2] + with_places(other, lambda k: k if k < 2 else k + p - 2))
+
+
+def fits(net):
+    return net[1] <= 7 and len(net[2]) <= 16
+
+
+def plain_about(net):
+    return (net[0], net[1], with_places(net, lambda k: 1 - k if k < 2 else k))
+
+
+def plain_cut(net, number):
+    return (net[0], net[1], tuple(contact for other, contact in enumerate(net[2]) if other != number))
+
+
+def plain_bridged(net, number):
+    a, b = net[2][number][:2]
+    left = tuple(contact for contact in with_places(net, lambda k: a if k == b else k - (k > b))
+                 if contact[0] != contact[1])
+    return (net[0], net[1] - 1, left)
+
+
+def plain_trimmed(net):
+    """The contacts that stay are picked by their first numbers."""
+    stay = list(range(len(net[2])))
+    for number in range(len(net[2])):
+        fewer = [other for other in stay if other != number]
+        if plain_function((net[0], net[1], tuple(net[2][other] for other in fewer))) == plain_function(net):
+            stay = fewer
+    return (net[0], net[1], tuple(net[2][other] for other in stay))

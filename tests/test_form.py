@@ -20,6 +20,8 @@ METHODS = set("""append clear copy count endswith extend find get index insert i
 isupper items join keys ljust lower lstrip partition pop remove replace reverse rfind rjust rpartition rsplit rstrip
 setdefault split splitlines startswith strip update upper values zfill bit_length""".split())
 UNDERSCORED = ("__init__", "__eq__", "__repr__", "__str__", "__len__")
+OWN_VALUES = set("""items keys values pop update append clear extend insert remove reverse setdefault sort args
+encode""".split())
 WALKED = ("zip", "enumerate", "reversed", "range", "items", "keys", "values")
 WALKERS = ("list", "tuple", "dict", "sorted", "sum", "any", "all", "enumerate", "zip", "min", "max", "join")
 WORDS = re.compile(r"\b(type|typing|typing_extensions|enum|Enum|IntEnum|StrEnum|Flag|IntFlag|Generic|Protocol|ABC|"
@@ -59,6 +61,20 @@ def is_plain_value(node, defined):
     if isinstance(node, ast.UnaryOp):
         return isinstance(node.op, ast.USub) and is_plain_value(node.operand, defined)
     return isinstance(node, ast.Constant)
+
+
+def is_only_read(parents, node):
+    """Whether a name of the top is defined here, or read by an index, a walk, `in`, `len` or `get`."""
+    parent = parents[node]
+    if isinstance(parent, ast.Assign):
+        return node in parent.targets and isinstance(parents[parent], ast.Module)
+    if isinstance(parent, ast.Subscript):
+        return parent.value is node and isinstance(parent.ctx, ast.Load)
+    if isinstance(parent, ast.Attribute):
+        return parent.attr in ("get", "index", "count", "items", "keys", "values")
+    if isinstance(parent, (ast.For, ast.comprehension, ast.Compare)):
+        return True
+    return called(parent) in ("len", "sorted", "list", "dict", "tuple")
 
 
 class File:
@@ -204,6 +220,32 @@ class Form(unittest.TestCase):
                 parent = file.parents[node]
                 walked = isinstance(parent, (ast.For, ast.comprehension)) and parent.iter is node
                 self.assertTrue(walked or called(parent) in WALKERS, where)
+
+    def test_texts_with_names_in_them(self):
+        for _, node, where in self.each_node(ast.FormattedValue):
+            self.assertIsInstance(node.value, ast.Name, where)
+            self.assertIsNone(node.format_spec, where)
+            self.assertIn(node.conversion, (-1, ord("r")), where)
+
+    def test_values_of_objects(self):
+        methods = [part.name for _, node, _ in self.each_node(ast.ClassDef) for part in node.body
+                   if isinstance(part, ast.FunctionDef)]
+        for file, node, where in self.each_node(ast.Attribute):
+            if isinstance(node.ctx, ast.Store):
+                self.assertIsInstance(node.value, ast.Name, where)
+                self.assertNotIn(node.value.id, file.top, where)
+                self.assertNotIn(node.attr, methods, where)
+                self.assertNotIn(node.attr, OWN_VALUES, where)
+
+    def test_lists_and_dicts_of_the_top_are_only_read(self):
+        for file in self.files:
+            kept = {node.targets[0].id: node.value for node in file.tree.body if isinstance(node, ast.Assign)}
+            for value in kept.values():
+                for part in list(ast.walk(value))[1:]:
+                    self.assertNotIsInstance(part, (ast.List, ast.Dict), file.path)
+            for node in file.nodes:
+                if isinstance(node, ast.Name) and isinstance(kept.get(node.id), (ast.List, ast.Dict)):
+                    self.assertTrue(is_only_read(file.parents, node), f"{file.path.name}:{node.lineno}")
 
     def test_errors_are_taken_by_name(self):
         for _, node, where in self.each_node(ast.ExceptHandler):

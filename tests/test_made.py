@@ -6,7 +6,8 @@ from contactnets import made
 from contactnets.made import about, bridged, cut, in_row, side_by_side
 from contactnets.nets import is_net
 from tests.helper import ALIKE, APART, EMPTY, LADDER, LARGE_NETS, LOOSE_ENDS, NETS, NO_NUMBERS
-from tests.helper import only_of, plain_function, plain_joins, plain_settings, plain_shut, refused
+from tests.helper import fits, only_of, plain_about, plain_bridged, plain_cut, plain_function, plain_joins
+from tests.helper import plain_row, plain_settings, plain_shut, plain_side, refused, thick
 
 
 def sparse(places, switches=2):
@@ -15,34 +16,10 @@ def sparse(places, switches=2):
     return (switches, places, tuple(contacts + [(0, 1, 0, 0)]))
 
 
-def thick(places, count):
-    return (1, places, tuple((0, 1, 0, number % 2) for number in range(count)))
-
-
 PAIRS = [(sparse(p), sparse(q)) for p in range(2, 8) for q in range(2, 8)]
 PAIRS += [((2, p, ()), sparse(q)) for p in range(2, 8) for q in range(2, 8)]
 PAIRS += [(sparse(p), (2, q, ())) for p in range(2, 8) for q in range(2, 8)]
 PAIRS += [(one, other) for one, other in itertools.product(NETS, repeat=2) if one[0] == other[0]]
-
-
-def with_places(net, new):
-    return tuple((min(new(a), new(b)), max(new(a), new(b)), switch, on) for a, b, switch, on in net[2])
-
-
-def plain_row(one, other):
-    p, q = one[1], other[1]
-    first = with_places(one, lambda k: p + q - 2 if k == 1 else k)
-    second = with_places(other, lambda k: p + q - 2 if k == 0 else 1 if k == 1 else k + p - 2)
-    return (one[0], p + q - 1, first + second)
-
-
-def plain_side(one, other):
-    p, q = one[1], other[1]
-    return (one[0], p + q - 2, one[2] + with_places(other, lambda k: k if k < 2 else k + p - 2))
-
-
-def fits(net):
-    return net[1] <= 7 and len(net[2]) <= 16
 
 
 class Interface(unittest.TestCase):
@@ -135,7 +112,7 @@ class About(unittest.TestCase):
     def test_all_nets(self):
         for net in NETS + LARGE_NETS:
             told = about(net)
-            self.assertEqual(told, (net[0], net[1], with_places(net, lambda k: 1 - k if k < 2 else k)))
+            self.assertEqual(told, plain_about(net))
             self.assertIs(is_net(told), True)
             self.assertTrue(only_of(told, tuple, int))
             self.assertEqual(about(told), net)
@@ -152,8 +129,7 @@ class Cut(unittest.TestCase):
         for net in NETS + LARGE_NETS:
             for number in range(len(net[2])):
                 told = cut(net, number)
-                contacts = tuple(contact for other, contact in enumerate(net[2]) if other != number)
-                self.assertEqual(told, (net[0], net[1], contacts))
+                self.assertEqual(told, plain_cut(net, number))
                 self.assertIs(is_net(told), True)
 
 
@@ -183,9 +159,7 @@ class Bridged(unittest.TestCase):
                     refused(self, "NoBridge", bridged, net, number)
                     continue
                 told = bridged(net, number)
-                left = tuple(contact for contact in with_places(net, lambda k: a if k == b else k - (k > b))
-                             if contact[0] != contact[1])
-                self.assertEqual(told, (net[0], net[1] - 1, left))
+                self.assertEqual(told, plain_bridged(net, number))
                 self.assertIs(is_net(told), True)
                 self.assertTrue(only_of(told, tuple, int))
 
